@@ -1,0 +1,1 @@
+"""Coins changed at counters that round down."""
