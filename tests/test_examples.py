@@ -14,6 +14,119 @@ EXAMPLES = {
     >>> [changed((0, 1, 2, 3), 7), changed((0, 1, 5, 1), 4)]
     [9, 0]
     """,
+    "run": """
+    >>> from coincounters.routes import run
+    >>> A = (2, ((0, 1, 2, 3), (1, 0, 1, 1)))
+    >>> [run(A, 0, 7, (0, 1, 0)), run(A, 1, 5, ())]
+    [(1, 12), (1, 5)]
+    """,
+    "least_start": """
+    >>> from coincounters.routes import least_start
+    >>> A = (2, ((0, 1, 2, 3), (1, 0, 1, 1)))
+    >>> [least_start(A, 0, (0, 1, 0), 10), least_start(A, 0, (), 3), least_start(A, 0, (0,), 0)]
+    [6, 3, 0]
+    """,
+    "comes_out": """
+    >>> from coincounters.routes import comes_out
+    >>> A = (2, ((0, 1, 2, 3), (1, 0, 1, 1)))
+    >>> [comes_out(A, 0, (0,), 6), comes_out(A, 0, (0,), 4)]
+    [True, False]
+    """,
+    "period_of": """
+    >>> from coincounters.routes import period_of
+    >>> A = (2, ((0, 1, 2, 3), (1, 0, 1, 1)))
+    >>> [period_of(A, 0, (0, 1, 0)), period_of(A, 1, ())]
+    [(4, 9), (1, 1)]
+    """,
+    "find_difference": """
+    >>> from coincounters.routes import find_difference
+    >>> A = (2, ((0, 1, 2, 3), (1, 0, 1, 1)))
+    >>> [find_difference(A, 0, (0,), (0, 1, 0)), find_difference(A, 0, (0,), (0,))]
+    [4, None]
+    """,
+    "amounts_within": """
+    >>> from coincounters.routes import amounts_within
+    >>> A = (2, ((0, 1, 2, 3), (1, 0, 1, 1)))
+    >>> [amounts_within(A, 0, 4, 2), amounts_within(A, 0, 1, 6)]
+    [((4, 6), (6,)), ((0, 1), (0,))]
+    """,
+    "best_within": """
+    >>> from coincounters.best import best_within
+    >>> A = (2, ((0, 1, 2, 3), (1, 0, 1, 1)))
+    >>> [best_within(A, 0, 4, 1), best_within(A, 0, 4, 3), best_within(A, 1, 5, 0)]
+    [(4, 6), (6, 9), (0, 5)]
+    """,
+    "best_from": """
+    >>> from coincounters.best import best_from
+    >>> A = (2, ((0, 1, 2, 3), (1, 0, 1, 1)))
+    >>> G = (3, ((0, 1, 1, 1), (0, 2, 4, 5), (2, 1, 1, 1)))
+    >>> [best_from(A, 0, 2), best_from(A, 0, 4), best_from(A, 0, 1), best_from(G, 0, 9), best_from(G, 1, 3)]
+    [(3, 3), (None, None), (1, 0), (9, 10, 10), (0, 3, 0)]
+    """,
+    "least_needed": """
+    >>> from coincounters.best import least_needed
+    >>> A = (2, ((0, 1, 2, 3), (1, 0, 1, 1)))
+    >>> G = (3, ((0, 1, 1, 1), (0, 2, 4, 5), (2, 1, 1, 1)))
+    >>> [least_needed(A, 0, 1, 1000), least_needed(A, 0, 1, 3), least_needed(G, 0, 1, 10), least_needed(G, 1, 0, 1), least_needed(G, 1, 1, 7)]
+    [4, 2, 8, None, 7]
+    """,
+    "find_certificate": """
+    >>> from coincounters.best import certificate_holds, find_certificate
+    >>> A = (2, ((0, 1, 2, 3), (1, 0, 1, 1)))
+    >>> [find_certificate(A, 0, 2, 1, 3), certificate_holds(A, 0, 2, 1, 4, find_certificate(A, 0, 2, 1, 4)), find_certificate(A, 0, 4, 1, 1)[0]]
+    [('route', (0,)), True, 'growth']
+    """,
+    "certificate_holds": """
+    >>> from coincounters.best import certificate_holds
+    >>> A = (2, ((0, 1, 2, 3), (1, 0, 1, 1)))
+    >>> [certificate_holds(A, 0, 2, 1, 4, ('ceiling', (3, 3))), certificate_holds(A, 0, 2, 1, 4, ('ceiling', (2, 3))), certificate_holds(A, 0, 4, 1, 10 ** 9, ('growth', (), (0, 1), (0,)))]
+    [True, False, True]
+    """,
+    "needed_counters": """
+    >>> from coincounters.best import needed_counters
+    >>> A = (2, ((0, 1, 2, 3), (1, 0, 1, 1)))
+    >>> G = (3, ((0, 1, 1, 1), (0, 2, 4, 5), (2, 1, 1, 1)))
+    >>> [needed_counters(A, 0, 2), needed_counters(G, 0, 9), needed_counters(G, 0, 3)]
+    [(0, 1), (1, 2), (0,)]
+    """,
+    "is_loop": """
+    >>> from coincounters.loops import is_loop
+    >>> A = (2, ((0, 1, 2, 3), (1, 0, 1, 1)))
+    >>> [is_loop(A, (0, 1)), is_loop(A, (0,)), is_loop(A, (1, 0, 1, 0)), is_loop(A, ())]
+    [True, False, True, False]
+    """,
+    "turn_of": """
+    >>> from coincounters.loops import turn_of
+    >>> A = (2, ((0, 1, 2, 3), (1, 0, 1, 1)))
+    >>> [turn_of(A, (0, 1), 5), turn_of(A, (1, 0), 5)]
+    [6, 6]
+    """,
+    "fixed_amounts": """
+    >>> from coincounters.loops import fixed_amounts
+    >>> A = (2, ((0, 1, 2, 3), (1, 0, 1, 1)))
+    >>> list(fixed_amounts(A, (0, 1), 100))
+    [0, 3]
+    """,
+    "fate_of": """
+    >>> from coincounters.loops import fate_of
+    >>> A = (2, ((0, 1, 2, 3), (1, 0, 1, 1)))
+    >>> [fate_of(A, (0, 1), 3), fate_of(A, (0, 1), 1), fate_of(A, (0, 1), 2), fate_of(A, (0, 1), 4)]
+    [('stays', 3), ('falls', 0), ('rises', 3), ('grows',)]
+    """,
+    "growth_start": """
+    >>> from coincounters.loops import greatest_fixed, growth_start
+    >>> A = (2, ((0, 1, 2, 3), (1, 0, 1, 1)))
+    >>> C = (2, ((0, 1, 2, 5), (1, 0, 1, 1)))
+    >>> [growth_start(A, (0, 1)), greatest_fixed(A, (0, 1)), growth_start(C, (0, 1)), greatest_fixed(C, (0, 1))]
+    [4, 3, 2, 0]
+    """,
+    "loops_at": """
+    >>> from coincounters.loops import loops_at
+    >>> A = (2, ((0, 1, 2, 3), (1, 0, 1, 1)))
+    >>> G = (3, ((0, 1, 1, 1), (0, 2, 4, 5), (2, 1, 1, 1)))
+    >>> [loops_at(A, 0), loops_at(A, 1), loops_at(G, 0)]
+    [((0, 1),), ((1, 0),), ()]
+    """,
     "with_counter": """
     >>> from coincounters.boards import with_counter, without_counter
     >>> A = (2, ((0, 1, 2, 3), (1, 0, 1, 1)))
