@@ -160,6 +160,14 @@ def shortest_route(board, kind, amount, needs):
     return route_through(board, kind, amount, rows[1:])
 
 
+def route_to(board, kind, amount, target, wanted):
+    """Returns the shortest route that fulfils the wish, or () if none of at most MAX_ROUTE counters does."""
+    try:
+        return shortest_route(board, kind, amount, target_needs(board, target, wanted))
+    except TooLong:
+        return ()
+
+
 def first_growing_loop(board, kind, amount):
     """Returns the first loop at the kind in which the amount grows, where there is one."""
     for start, loop in growing_loops(board, kind):

@@ -145,17 +145,128 @@ EXAMPLES = {
     >>> renamed(A, (1, 0))
     (2, ((1, 0, 2, 3), (0, 1, 1, 1)))
     """,
+    "Purse": """
+    >>> from coincounters.purses import Purse
+    >>> A = (2, ((0, 1, 2, 3), (1, 0, 1, 1)))
+    >>> purse = Purse(A, 0, 2)
+    >>> [purse.board == A, purse.kind, purse.amount, purse.best, len(purse)]
+    [True, 0, 2, (3, 3), 0]
+    """,
+    "attributes": """
+    >>> from coincounters.purses import Purse
+    >>> [Purse.MOST_EDITS, Purse((1, ()), 0, 5).best]
+    [60, (5,)]
+    """,
+    "change": """
+    >>> from coincounters.purses import Purse
+    >>> A = (2, ((0, 1, 2, 3), (1, 0, 1, 1)))
+    >>> purse = Purse(A, 0, 2)
+    >>> [purse.change(0), purse.kind, purse.amount, purse.earn(1), purse.change(1), purse.best, purse.close(0), purse.best]
+    [1, 1, 3, 2, 3, (None, None), 4, (4, 0)]
+    """,
+    "undo": """
+    >>> from coincounters.purses import Purse
+    >>> A = (2, ((0, 1, 2, 3), (1, 0, 1, 1)))
+    >>> purse = Purse(A, 0, 3)
+    >>> [purse.change(0), purse.amount, purse.undo(), purse.kind, purse.amount]
+    [1, 3, 0, 0, 3]
+    """,
+    "attempt": """
+    >>> from coincounters.purses import Purse
+    >>> A = (2, ((0, 1, 2, 3), (1, 0, 1, 1)))
+    >>> purse = Purse(A, 0, 2)
+    >>> purse.attempt([('change', 0), ('change', 0)])
+    raises Rejected(1)
+    """,
+    "state": """
+    >>> from coincounters.purses import Purse
+    >>> purse = Purse((1, ()), 0, 2)
+    >>> [purse.earn(3), purse.state(), purse.state(version=0)]
+    [1, ((1, ()), 0, 5), ((1, ()), 0, 2)]
+    """,
+    "certificate": """
+    >>> from coincounters.purses import Purse
+    >>> A = (2, ((0, 1, 2, 3), (1, 0, 1, 1)))
+    >>> Purse(A, 0, 2).certificate(1, 3)
+    ('route', (0,))
+    """,
+    "walk": """
+    >>> from coincounters.purses import Purse
+    >>> A = (2, ((0, 1, 2, 3), (1, 0, 1, 1)))
+    >>> list(Purse(A, 0, 4).walk(1, 9))
+    [(0, 1, 6), (1, 0, 6), (0, 1, 9)]
+    """,
+    "edits": """
+    >>> from coincounters.purses import Purse
+    >>> purse = Purse((1, ()), 0, 2)
+    >>> [purse.earn(3), purse.edits()]
+    [1, (('earn', 3),)]
+    """,
+    "read": """
+    >>> from coincounters.purses import Purse
+    >>> purse = Purse.read('2 kinds; 0: 7; 0>1 2:3 1>0 1:1')
+    >>> [purse.board, purse.kind, purse.amount]
+    [(2, ((0, 1, 2, 3), (1, 0, 1, 1))), 0, 7]
+    """,
+    "len_str_eq": """
+    >>> from coincounters.purses import Purse
+    >>> A = (2, ((0, 1, 2, 3), (1, 0, 1, 1)))
+    >>> [str(Purse(A, 0, 7)), Purse(A, 0, 7) == Purse(A, 1, 7)]
+    ['2 kinds, 2 counters, 7 coins of kind 0, 0 edits', False]
+    """,
+    "Cap": """
+    >>> from coincounters.caps import Cap
+    >>> cap = Cap(10)
+    >>> [cap.most, cap.room(4)]
+    [10, 6]
+    """,
+    "CappedPurse": """
+    >>> from coincounters.purses import CappedPurse
+    >>> A = (2, ((0, 1, 2, 3), (1, 0, 1, 1)))
+    >>> purse = CappedPurse(A, 0, 4, 5)
+    >>> [purse.room(purse.amount), purse.change(0)]
+    raises OverCap(6)
+    """,
+    "purse_text": """
+    >>> from coincounters.texts import purse_text
+    >>> A = (2, ((0, 1, 2, 3), (1, 0, 1, 1)))
+    >>> [purse_text(A, 0, 7), purse_text((1, ()), 0, 5)]
+    ['2 kinds; 0: 7; 0>1 2:3 1>0 1:1', '1 kinds; 0: 5;']
+    """,
+    "parse_purse": """
+    >>> from coincounters.texts import parse_purse
+    >>> parse_purse('2 kinds; 0: 7; 0>1 2:3 1>1 1:1')
+    raises BadText(6)
+    """,
+    "Shell": """
+    >>> from coincounters.purses import Purse
+    >>> from coincounters.shells import Shell
+    >>> Shell(Purse((1, ()), 0, 5)).execute('purse')
+    '1 kinds; 0: 5;'
+    """,
+    "execute": """
+    >>> from coincounters.purses import Purse
+    >>> from coincounters.shells import Shell
+    >>> A = (2, ((0, 1, 2, 3), (1, 0, 1, 1)))
+    >>> shell = Shell(Purse(A, 0, 2))
+    >>> [shell.execute('best'), shell.execute('can 1 4'), shell.execute('earn 2'), shell.execute('best'), shell.execute('change 1'), shell.execute('put up 1>0 1:0')]
+    ['3 3', 'ceiling', 'ok 1', 'endless endless', 'error WrongKind', 'unknown command']
+    """,
 }
 
 
 def session_result(example):
-    """The repr of the last expression of a session, and the line that is expected."""
+    """What a session ends with, the repr of the last expression or the error, and the line that is expected."""
     *lines, expected = [line.strip() for line in example.strip().splitlines()]
     *statements, expression = [line.removeprefix(">>> ") for line in lines]
     names = {}
     for statement in statements:
         exec(statement, names)
-    return repr(eval(expression, names)), expected
+    try:
+        return repr(eval(expression, names)), expected
+    except (ValueError, LookupError) as error:
+        fields = ", ".join(repr(value) for value in vars(error).values())
+        return f"raises {type(error).__name__}({fields})", expected
 
 
 class ExamplesTest(unittest.TestCase):
