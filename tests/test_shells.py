@@ -19,23 +19,24 @@ RIGHT_LINES = ["change 0", "change 1", "earn 1", "earn 1000000000000", "close 0"
 
 # A text of a right line with something wrong in it.
 WRONG_LINES = [
-    "", " ", "  ", "\n", "change", "earn", "close", "put", "put up", "can", "can 0", "change 0 1", "change 0 ", " change 0",
-    "change  0", "change\n0", "change 0\n", "\nchange 0", "Change 0", "CHANGE 0", "changes 0", "chang 0", "change 00",
-    "change 01", "change -1", "change -0", "change +0", "change 0_0", "change 1_0", "change _0", "change 0x0", "change 0.0",
-    "change zero", "change ''", "change 12345678901234", "change 00000000000000", "change0", "change:0", "change 0;",
-    "earn 01", "earn +1", "earn 1_000", "earn 10000000000000", "earn 1 1", "earn 1e3", "earn  1", "earn one", "close 0 0",
-    "close", "close -1", "close all", "undo 1", "undo ", " undo", "undo\n", "Undo", "undo undo", "redo", "purse ", "purse 0",
-    "Purse", "purses", "best ", "best 0", "Best", "endless", "can 0 1 2", "can 0  1", "can  0 1", "can 0 01", "can 0 -1",
-    "can -1 1", "can 0 12345678901234", "can 00 1", "can zero one", "can 0 1\n", "Can 0 1", "can 0,1", "cannot 0 1",
-    "put up 0>1", "put up 2:3", "put up  0>1 2:3", "put up 0>1  2:3", "put up 0>1 2:3 ", "put  up 0>1 2:3", "put 0>1 2:3",
-    "put_up 0>1 2:3", "Put up 0>1 2:3", "put Up 0>1 2:3", "put up 0>1 2:3 1>0 1:1", "put up 2:3 0>1", "put up 0>1\n2:3",
+    "", " ", "  ", "\n", "change", "earn", "close", "put", "put up", "can", "can 0", "change 0 1", "change 0 ",
+    " change 0", "change  0", "change\n0", "change 0\n", "\nchange 0", "Change 0", "CHANGE 0", "changes 0", "chang 0",
+    "change 00", "change 01", "change -1", "change -0", "change +0", "change 0_0", "change 1_0", "change _0",
+    "change 0x0", "change 0.0", "change zero", "change ''", "change 12345678901234", "change 00000000000000",
+    "change0", "change:0", "change 0;", "earn 01", "earn +1", "earn 1_000", "earn 10000000000000", "earn 1 1",
+    "earn 1e3", "earn  1", "earn one", "close 0 0", "close", "close -1", "close all", "undo 1", "undo ", " undo",
+    "undo\n", "Undo", "undo undo", "redo", "purse ", "purse 0", "Purse", "purses", "best ", "best 0", "Best",
+    "endless", "can 0 1 2", "can 0  1", "can  0 1", "can 0 01", "can 0 -1", "can -1 1", "can 0 12345678901234",
+    "can 00 1", "can zero one", "can 0 1\n", "Can 0 1", "can 0,1", "cannot 0 1", "put up 0>1", "put up 2:3",
+    "put up  0>1 2:3", "put up 0>1  2:3", "put up 0>1 2:3 ", "put  up 0>1 2:3", "put 0>1 2:3", "put_up 0>1 2:3",
+    "Put up 0>1 2:3", "put Up 0>1 2:3", "put up 0>1 2:3 1>0 1:1", "put up 2:3 0>1", "put up 0>1\n2:3",
     "put up 0>1 2:3\n", "put up 0>0 1:1", "put up 0>2 1:1", "put up 2>0 1:1", "put up 0>1 0:1", "put up 0>1 1:0",
     "put up 0>1 6:1", "put up 0>1 1:6", "put up 00>1 1:1", "put up 0>01 1:1", "put up 0>1 01:1", "put up 0>1 1:01",
-    "put up -0>1 1:1", "put up 0>+1 1:1", "put up 0>1 1:_1", "put up 0<1 1:1", "put up 0>1 1;1", "put up (0, 1, 1, 1)",
-    "put up 0 1 1 1", "put up 0>1>1 1:1", "put up 0>1 1:1:1", "put up 0>1>1 1", "put up > :", "up 0>1 1:1", "put 0",
-    "up 0", "attempt", "attempt 0", "state", "edits", "walk 0 1", "read", "room 5", "len", "str", "board", "kind", "help",
-    "2 kinds; 0: 7;", "ok 1", "error Busy", "unknown command", "x" * 2000, "change " * 200, "earn " + "9" * 1990,
-    "change " + "9" * 5000,
+    "put up -0>1 1:1", "put up 0>+1 1:1", "put up 0>1 1:_1", "put up 0<1 1:1", "put up 0>1 1;1",
+    "put up (0, 1, 1, 1)", "put up 0 1 1 1", "put up 0>1>1 1:1", "put up 0>1 1:1:1", "put up 0>1>1 1", "put up > :",
+    "up 0>1 1:1", "put 0", "up 0", "attempt", "attempt 0", "state", "edits", "walk 0 1", "read", "room 5", "len",
+    "str", "board", "kind", "help", "2 kinds; 0: 7;", "ok 1", "error Busy", "unknown command", "x" * 2000,
+    "change " * 200, "earn " + "9" * 1990, "change " + "9" * 5000,
 ]
 
 
@@ -129,7 +130,9 @@ class ShellTest(unittest.TestCase):
     def test_answers_of_edits(self):
         purse = Purse(BOARD_A, 0, 2)
         shell = Shell(purse)
-        lines = ["change 0", "earn 1", "change 1", "close 0", "put up 0>1 5:5", "purse", "undo", "undo", "undo", "purse"]
+        lines = [
+            "change 0", "earn 1", "change 1", "close 0", "put up 0>1 5:5", "purse", "undo", "undo", "undo", "purse",
+        ]
         self.assertEqual([shell.execute(line) for line in lines], [
             "ok 1", "ok 2", "ok 3", "ok 4", "ok 5", "2 kinds; 0: 4; 1>0 1:1 0>1 5:5", "ok 4", "ok 3", "ok 2",
             "2 kinds; 1: 4; 0>1 2:3 1>0 1:1",
@@ -173,7 +176,8 @@ class ShellTest(unittest.TestCase):
             (Purse(BOARD_A, 0, 2), "earn 1000000000000", "TooMuch"), (Purse(BOARD_A, 0, 2), "earn 0", "BadCoins"),
             (Purse(BOARD_A, 0, 2), "earn 1000000000001", "BadCoins"), (Purse(BOARD_A, 0, 2), "undo", "NothingToUndo"),
             (Purse(FULL_BOARD, 0, 2), "put up 0>1 1:1", "TooManyCounters"),
-            (CappedPurse(BOARD_A, 0, 4, 5), "change 0", "OverCap"), (CappedPurse(BOARD_A, 0, 4, 5), "earn 2", "OverCap"),
+            (CappedPurse(BOARD_A, 0, 4, 5), "change 0", "OverCap"),
+            (CappedPurse(BOARD_A, 0, 4, 5), "earn 2", "OverCap"),
         ]
         for purse, line, name in cases:
             before = view(purse)
